@@ -1,0 +1,1 @@
+"""Deedline: a key store that is one line of deeds."""

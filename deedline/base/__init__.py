@@ -1,0 +1,1 @@
+"""What all of Deedline stands on: texts, numbers, replies, patterns and hashes."""

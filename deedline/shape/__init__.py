@@ -1,0 +1,1 @@
+"""The shapes in which values are kept."""

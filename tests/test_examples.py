@@ -1,0 +1,42 @@
+"""The examples, as they stand in the document."""
+
+import doctest
+import pathlib
+import unittest
+
+from deedline.base import hashes, patterns, replies, words
+from deedline.shape import maps, packs, sets, skips, sorts, tables
+
+EXAMPLES = r'''
+>>> [number_reply(-7), texts_reply(("a", "b")), is_reply(("list", (("none",), ("list", ())))), is_reply(("number", True)), is_reply(("error", "kinds")), len(CODES)]
+[('number', -7), ('list', (('text', 'a'), ('text', 'b'))), True, False, False, 15]
+>>> [number_of("-0"), number_of("007"), number_of("-12"), number_of("9223372036854775808"), number_of("-9223372036854775808") == LEAST, is_key(""), is_text(""), is_command(("get", "a")), is_command(())]
+[None, None, -12, None, True, False, True, True, False]
+>>> [hash_of(""), hash_of("a"), hash_of("ab"), hash_of("ac"), hash_of("bB"), spot_of("a"), spot_of("b"), spot_of("c"), spot_of("d")]
+[0, 97, 3299, 3300, 3300, 34304, 17920, 50688, 9728]
+>>> table = Table()
+>>> [[table.put(name, at) for at, name in enumerate("abcde")], table.counts(), table.get("a"), table.counts(), table.put("a", 7)]
+[[True, True, True, True, True], (4, 8, 0, 5), 0, (4, 8, 1, 5), False]
+>>> some = Members(Bounds(8, 64, 3, 32), ("10", "2", "-7"))
+>>> [some.shape, some.row, some.plain, some.put("2"), some.take("10"), some.put("007"), some.shape, some.row, some.plain]
+['row', (-7, 2, 10), ('-7', '10', '2'), False, True, True, 'table', None, ('-7', '007', '2')]
+'''
+
+
+class Examples(unittest.TestCase):
+    def examples(self, text, names, many):
+        test = doctest.DocTestParser().get_doctest(text, names, "examples", None, 0)
+        self.assertEqual(len(test.examples), many)
+        told = []
+        result = doctest.DocTestRunner(verbose=False).run(test, out=told.append)
+        self.assertEqual(result.failed, 0, "".join(told))
+
+    def test_the_document(self):
+        names = {}
+        for module in (hashes, patterns, replies, words, maps, packs, sets, skips, sorts, tables):
+            names.update(vars(module))
+        self.examples(EXAMPLES, names, 7)
+
+    def test_the_readme(self):
+        readme = pathlib.Path(__file__).resolve().parent.parent / "README.md"
+        self.examples(readme.read_text().replace("```", ""), {}, 9)
