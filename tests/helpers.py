@@ -1,5 +1,6 @@
 """What several tests need: values of every kind, plain predicates, and a check of what is refused."""
 
+import copy
 import random
 import unittest
 
@@ -66,6 +67,75 @@ def not_of(*classes):
     return [value for value in values() if type(value) not in classes]
 
 
+def not_keys():
+    return [value for value in values() if not is_plain_text(value) or not 1 <= len(value) <= 40]
+
+
+def not_times():
+    return not_integers(0, 10 ** 15)
+
+
+def not_commands():
+    """Values that are no commands, and values near commands."""
+    near = [("get", "a" * 201), ("get", "a\n"), ("get", 1), ("get", True), ("get", None), ["get", "a"], ("get", ("a",)),
+            ("a",) * 65, ("get", "a", ["a"]), "get", (), {"get": "a"}]
+    told = [value for value in values() if type(value) is not tuple or not all(map(is_plain_text, value))
+            or not 1 <= len(value) <= 64]
+    return told + near
+
+
+# Entries of each kind.
+ENTRIES = {
+    "list": ("list", ("x", "y", "x"), None), "map": ("map", (("f", "7"), ("g", "x")), None),
+    "set": ("set", ("x", "y"), None), "sorted": ("sorted", ((-1, "y"), (2, "x")), None), "text": ("text", "7", None),
+}
+
+
+def not_plain():
+    """Pairs of a kind and a value that is no plain value of it, but near one."""
+    texts = tuple("%03d" % at for at in range(201))
+    return [
+        ("text", "a" * 201), ("text", "a\n"), ("text", ("a",)), ("text", None), ("text", 7),
+        ("list", ()), ("list", texts), ("list", ["a"]), ("list", "ab"), ("list", ("a", 1)), ("list", ("a" * 201,)),
+        ("list", ("a", None)), ("list", (("a",),)), ("list", ("a\n",)), ("list", {"a": "b"}),
+        ("set", ()), ("set", texts), ("set", ["a", "b"]), ("set", ("b", "a")), ("set", ("a", "a")), ("set", ("a", 1)),
+        ("set", ("a", "c", "b")), ("set", ("a", "b" * 201)), ("set", ("a", None)),
+        ("sorted", ()), ("sorted", tuple((1, text) for text in texts)), ("sorted", [(1, "a")]), ("sorted", ("a",)),
+        ("sorted", ((2, "a"), (1, "b"))), ("sorted", ((1, "b"), (1, "a"))), ("sorted", ((1, "a"), (1, "a"))),
+        ("sorted", ((1, "a"), (2, "b"), (3, "a"))), ("sorted", ((True, "a"),)), ("sorted", ((0, "a"), (True, "b"))),
+        ("sorted", (("1", "a"),)), ("sorted", ((1, 2),)), ("sorted", ((1, "a", "b"),)), ("sorted", ([1, "a"],)),
+        ("sorted", ((MOST + 1, "a"),)), ("sorted", ((LEAST - 1, "a"),)), ("sorted", ((1, "a" * 201),)),
+        ("sorted", (("a", 1),)), ("sorted", ((None, "a"),)), ("sorted", (1, "a")), ("sorted", {1: "a"}),
+        ("map", ()), ("map", tuple((text, "") for text in texts)), ("map", [("a", "b")]), ("map", ("ab",)),
+        ("map", (("b", ""), ("a", ""))), ("map", (("a", ""), ("a", "b"))), ("map", (("a", "b"), ("a", "b"))),
+        ("map", (("a", 1),)), ("map", ((1, "a"),)), ("map", (("a", "b", "c"),)), ("map", (["a", "b"],)),
+        ("map", (("a", "b" * 201),)), ("map", (("a" * 201, "b"),)), ("map", (("a",),)), ("map", ("a", "b")),
+        ("map", {"a": "b"}), ("map", ((True, "a"),)), ("map", (("a", None),)),
+    ]
+
+
+def not_entries():
+    """Values that are no entries, and values near entries."""
+    near = [
+        (), ("text",), ("text", "a"), ("text", "a", None, None), ["text", "a", None], ("text", "a", True),
+        ("text", "a", False), ("text", "a", -1), ("text", "a", 10 ** 15 + 1), ("text", "a", "5"), ("text", "a", ()),
+        ("texts", "a", None), ("Text", "a", None), ("", "a", None), (None, "a", None), (["text"], "a", None),
+        (1, "a", None), (True, "a", None), ("set", "a", None), ("text", ("a",), None), (Table(), "a", None), "abc",
+        ("text", "a", Table()), ("sorted", (("f", "g"),), None), ("map", ((1, "a"),), None),
+    ]
+    return values() + near + [(kind, value, None) for kind, value in not_plain()]
+
+
+def not_stores():
+    """Values that are no plain stores, and values near plain stores."""
+    good = ("text", "a", None)
+    near = [{key: good} for key in ("", "k" * 41, "a\n", 1, None, True, ("a",))]
+    near += [{"a": good, key: good} for key in ("", 0, False)]
+    near += [{"a": good, "b": entry} for entry in not_entries()]
+    near += [{"k%d" % at: good for at in range(201)}, [("a", good)], (("a", good),), good]
+    return [value for value in values() if value != {} or type(value) is not dict] + near
+
+
 def chance(seed):
     """A row of numbers that looks like chance, the same one in every run."""
     return random.Random(seed)
@@ -83,6 +153,20 @@ class Case(unittest.TestCase):
             value = getattr(caught.exception, KEPT_AS[error])
             self.assertIs(type(value), type(kept))
             self.assertEqual(value, kept)
+
+    def does(self, call, command, entries, reply, after):
+        """The call returns the reply and the entries behind it, ascending; what was passed stays."""
+        entries = dict(entries)
+        before = copy.deepcopy(entries)
+        told = call(command, entries)
+        self.assertIs(type(told), tuple)
+        self.assertEqual((command, told), (command, (reply, after)))
+        self.assertEqual(list(told[1]), sorted(after))
+        self.assertIs(type(told[1]), dict)
+        self.assertIsNot(told[1], entries)
+        self.assertEqual((entries, list(entries)), (before, list(before)))
+        told[1]["else"] = None
+        self.assertEqual(entries, before)
 
     def unlike(self, thing):
         """The thing is equal to no value of another kind, and not iterated over."""

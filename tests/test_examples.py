@@ -5,7 +5,10 @@ import pathlib
 import unittest
 
 from deedline.base import hashes, patterns, replies, words
-from deedline.shape import maps, packs, sets, skips, sorts, tables
+from deedline.plain import grammar, lists, texts
+from deedline.plain import maps as plain_maps
+from deedline.plain import sets as plain_sets
+from deedline.shape import entries, maps, packs, sets, skips, sorts, tables
 
 EXAMPLES = r'''
 >>> [number_reply(-7), texts_reply(("a", "b")), is_reply(("list", (("none",), ("list", ())))), is_reply(("number", True)), is_reply(("error", "kinds")), len(CODES)]
@@ -20,6 +23,18 @@ EXAMPLES = r'''
 >>> some = Members(Bounds(8, 64, 3, 32), ("10", "2", "-7"))
 >>> [some.shape, some.row, some.plain, some.put("2"), some.take("10"), some.put("007"), some.shape, some.row, some.plain]
 ['row', (-7, 2, 10), ('-7', '10', '2'), False, True, True, 'table', None, ('-7', '007', '2')]
+>>> [first_error(("get", "")), first_error(("add", "a", "1.5"))]
+['syntax', 'number']
+>>> do_text(("add", "n", "-7"), {})
+(('number', -7), {'n': ('text', '-7', None)})
+>>> do_list(("popr", "l", "2"), {"l": ("list", ("x", "y", "x"), 70)})
+(('list', (('text', 'x'), ('text', 'y'))), {'l': ('list', ('x',), 70)})
+>>> PAIR = {"a": ("set", ("x", "y"), None), "b": ("set", ("y", "z"), 50)}
+>>> do_set(("sadd", "b", "z", "q", "q"), PAIR)
+(('number', 1), {'a': ('set', ('x', 'y'), None), 'b': ('set', ('q', 'y', 'z'), 50)})
+>>> BOX = {"m": ("map", (("b", "7"), ("c", "x")), 90)}
+>>> do_map(("hset", "m", "b", "1", "a", "2", "a", "3"), BOX)
+(('number', 1), {'m': ('map', (('a', '3'), ('b', '1'), ('c', 'x')), 90)})
 '''
 
 
@@ -33,10 +48,11 @@ class Examples(unittest.TestCase):
 
     def test_the_document(self):
         names = {}
-        for module in (hashes, patterns, replies, words, maps, packs, sets, skips, sorts, tables):
+        for module in (hashes, patterns, replies, words, maps, packs, sets, skips, sorts, tables, entries, grammar, texts, lists,
+                       plain_maps, plain_sets):
             names.update(vars(module))
-        self.examples(EXAMPLES, names, 7)
+        self.examples(EXAMPLES, names, 14)
 
     def test_the_readme(self):
         readme = pathlib.Path(__file__).resolve().parent.parent / "README.md"
-        self.examples(readme.read_text().replace("```", ""), {}, 9)
+        self.examples(readme.read_text().replace("```", ""), {}, 13)

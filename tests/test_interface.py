@@ -12,6 +12,12 @@ FUNCTIONS = {
     "shape.packs": "is_nodes",
     "shape.sets": "united shared parted",
     "shape.skips": "height_of is_levels",
+    "shape.entries": "is_plain is_entry is_store shaped is_shaped kind_of plain_of shape_of value_size entry_size store_size",
+    "plain.grammar": "does_write first_error keys_of options_of",
+    "plain.texts": "do_text",
+    "plain.lists": "do_list",
+    "plain.sets": "do_set",
+    "plain.maps": "do_map",
 }
 CLASSES = {
     "errors": {name: "" for name in (

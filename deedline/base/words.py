@@ -1,6 +1,6 @@
 """Texts, keys, times, whole numbers and commands, and the checks that arguments are such."""
 
-from deedline.errors import InvalidNumber, InvalidText
+from deedline.errors import InvalidCommand, InvalidNumber, InvalidText, InvalidTime
 
 MAX_TEXT = 200
 MAX_KEY = 40
@@ -51,6 +51,24 @@ def check_text(text):
     """Raises InvalidText if it is no text."""
     if not is_text(text):
         raise InvalidText(text)
+
+
+def check_key(key):
+    """Raises InvalidText if it is no key."""
+    if not is_key(key):
+        raise InvalidText(key)
+
+
+def check_time(now):
+    """Raises InvalidTime if it is no time."""
+    if not is_time(now):
+        raise InvalidTime(now)
+
+
+def check_command(command):
+    """Raises InvalidCommand if it is no command."""
+    if not is_command(command):
+        raise InvalidCommand("no command")
 
 
 def check_whole(number):

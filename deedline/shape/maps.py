@@ -120,9 +120,10 @@ class Fields(Kept):
 
 def _check_pairs(pairs):
     """Raises InvalidOperation if it is no tuple of pairs of two texts."""
-    if not isinstance(pairs, tuple) or not all([_is_pair(pair) for pair in pairs]):
+    if not isinstance(pairs, tuple) or not all([is_text_pair(pair) for pair in pairs]):
         raise InvalidOperation("no tuple of pairs of two texts")
 
 
-def _is_pair(value):
+def is_text_pair(value):
+    """Whether the value is a pair of two texts."""
     return isinstance(value, tuple) and len(value) == 2 and is_text(value[0]) and is_text(value[1])

@@ -222,7 +222,7 @@ def is_levels(pairs, value):
 
 def check_pairs(pairs):
     """Raises InvalidOperation if it is no tuple of pairs (score, member)."""
-    if not isinstance(pairs, tuple) or not all([_is_pair(pair) for pair in pairs]):
+    if not isinstance(pairs, tuple) or not all([is_score_pair(pair) for pair in pairs]):
         raise InvalidOperation("no tuple of pairs of a score and a member")
 
 
@@ -232,5 +232,6 @@ def check_also(also):
         raise InvalidOperation("no boolean")
 
 
-def _is_pair(value):
+def is_score_pair(value):
+    """Whether the value is a pair (score, member)."""
     return isinstance(value, tuple) and len(value) == 2 and is_whole(value[0]) and is_text(value[1])

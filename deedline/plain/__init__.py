@@ -1,0 +1,1 @@
+"""The plain store: what commands answer and change, stage by stage."""
