@@ -56,10 +56,17 @@ class PlainCase(Case):
                             self.assertEqual(reply == error("kind"), kind not in kinds, (command, entries))
                             if kind not in kinds:
                                 self.assertEqual(after, {**more, **entries})
+            self.no_other_kinds(call, command, keys.split(" "))
             if not keys:
                 for kind in KINDS:
                     entries = {key: ENTRIES[kind] for key in command[1:] if 1 <= len(key) <= 40}
                     self.assertNotEqual(call(command, entries)[0], error("kind"))
+
+    def no_other_kinds(self, call, command, keys):
+        """What else a command names is no key whose kind is asked: its word, members and texts."""
+        names = {name for name in command if 1 <= len(name) <= 40 and name not in keys}
+        for kind in KINDS:
+            self.assertNotEqual(call(command, {name: ENTRIES[kind] for name in names})[0], error("kind"), command)
 
     def refusing(self, call, words, *good):
         """What the function refuses, and in what order."""

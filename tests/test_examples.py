@@ -4,11 +4,13 @@ import doctest
 import pathlib
 import unittest
 
-from deedline.base import hashes, patterns, replies, words
+from deedline.base import hashes, letters, patterns, replies, words
 from deedline.plain import grammar, lists, texts
 from deedline.plain import maps as plain_maps
 from deedline.plain import sets as plain_sets
+from deedline.plain import sorts as plain_sorts
 from deedline.shape import entries, maps, packs, sets, skips, sorts, tables
+from deedline.store import room
 
 EXAMPLES = r'''
 >>> [number_reply(-7), texts_reply(("a", "b")), is_reply(("list", (("none",), ("list", ())))), is_reply(("number", True)), is_reply(("error", "kinds")), len(CODES)]
@@ -35,6 +37,14 @@ EXAMPLES = r'''
 >>> BOX = {"m": ("map", (("b", "7"), ("c", "x")), 90)}
 >>> do_map(("hset", "m", "b", "1", "a", "2", "a", "3"), BOX)
 (('number', 1), {'m': ('map', (('a', '3'), ('b', '1'), ('c', 'x')), 90)})
+>>> BOARD = {"z": ("sorted", ((1, "b"), (1, "d"), (5, "a")), 70)}
+>>> do_sorted(("zadd", "z", "up", "changed", "0", "b", "2", "d", "3", "c"), BOARD)
+(('number', 2), {'z': ('sorted', ((1, 'b'), (2, 'd'), (3, 'c'), (5, 'a')), 70)})
+>>> [write_command(("set", "a b", "")), write_reply(("list", (("number", -3), ("none",), ("list", ()), ("error", "kind")))), read_reply("t3:k;:;"), write_reply(("done",))]
+['c3:t3:set;t3:a b;t0:;;', 'l4:n-3;z;l0:;ekind;;', ('text', 'k;:'), 'k;']
+>>> KEPT = {"a": ("text", "xx", 40), "b": ("text", "y", None), "c": ("text", "", 90), "d": ("text", "zzz", 20)}
+>>> [run_out(KEPT, 40), order_out(KEPT, 30, "idle", {"a": 7, "b": 2}), room_deeds(KEPT, 30, 53, "idle", {"a": 7, "b": 2}, ("c",))]
+[('d', 'a'), ('c', 'b', 'a'), (('gone', 'd'), ('out', 'b'))]
 '''
 
 
@@ -49,10 +59,10 @@ class Examples(unittest.TestCase):
     def test_the_document(self):
         names = {}
         for module in (hashes, patterns, replies, words, maps, packs, sets, skips, sorts, tables, entries, grammar, texts, lists,
-                       plain_maps, plain_sets):
+                       plain_maps, plain_sets, plain_sorts, letters, room):
             names.update(vars(module))
-        self.examples(EXAMPLES, names, 14)
+        self.examples(EXAMPLES, names, 19)
 
     def test_the_readme(self):
         readme = pathlib.Path(__file__).resolve().parent.parent / "README.md"
-        self.examples(readme.read_text().replace("```", ""), {}, 13)
+        self.examples(readme.read_text().replace("```", ""), {}, 21)

@@ -18,6 +18,11 @@ FUNCTIONS = {
     "plain.lists": "do_list",
     "plain.sets": "do_set",
     "plain.maps": "do_map",
+    "plain.sorts": "do_sorted",
+    "plain.keys": "do_keys",
+    "plain.store": "is_deed is_unit is_line has_run_out shown do do_block resolved apply changed_keys replay",
+    "base.letters": "write_command write_reply read_command read_reply",
+    "store.room": "run_out sweep_deeds order_out room_deeds",
 }
 CLASSES = {
     "errors": {name: "" for name in (
@@ -31,9 +36,14 @@ CLASSES = {
     "shape.sets": {"Members": "put take has bounds shape row figures plain anew __len__ __eq__"},
     "shape.skips": {"Skips": "put take score_of place_of steps_of at part below plain levels __len__ __eq__"},
     "shape.sorts": {"Scores": "put take score_of place_of at part below bounds shape levels plain anew __len__ __eq__"},
+    "base.letters": {"Reader": "feed made kind total pending bad"},
+    "store.room": {"Marks": "use forget mark_of table twin __len__"},
     "shape.maps": {"Fields": "put take text_of bounds shape row figures plain anew __len__ __eq__"},
 }
-PROPERTIES = ("texts", "signs", "members", "wide", "bounds", "nodes", "plain", "shape", "row", "figures", "levels")
+PROPERTIES = (
+    "texts", "signs", "members", "wide", "bounds", "nodes", "plain", "shape", "row", "figures", "levels", "kind", "total",
+    "pending", "bad",
+)
 
 
 class Interface(unittest.TestCase):

@@ -26,6 +26,7 @@ BARRED = set(
     "register mro elements open input law version_info with_traceback add_note attrgetter breakpoint builtins compile "
     "copyright credits delattr dir eval exec exit gc getattr globals hasattr help id importlib license locals "
     "methodcaller os quit setattr type vars".split())
+UNSAID = set("type typing enum Enum Flag Generic Protocol ABC namedtuple dataclass overload contextmanager abstractmethod".split())
 NODES_BARRED = (ast.Global, ast.AsyncFunctionDef, ast.AsyncFor, ast.AsyncWith, ast.Await, ast.Div, ast.MatMult,
                 ast.Import, ast.TryStar)
 
@@ -132,3 +133,50 @@ class Language(unittest.TestCase):
                     self.assertIn(ast.dump(node.comparators[0])[:8], ("Constant",), where)
                 if isinstance(node, ast.ExceptHandler):
                     self.assertIsNotNone(node.type, where)
+
+    def test_members(self):
+        properties, methods, attributes = set(), set(), set()
+        for path, tree in trees():
+            for kind in [node for node in ast.walk(tree) if isinstance(node, ast.ClassDef)]:
+                functions = [node for node in kind.body if isinstance(node, ast.FunctionDef)]
+                here = {node.name for node in functions if is_property(node)}
+                own = {node.name for node in functions} - here
+                stored = {node.attr for node in ast.walk(kind) if isinstance(node, ast.Attribute) and isinstance(node.ctx, ast.Store)
+                          and isinstance(node.value, ast.Name) and node.value.id == "self"}
+                self.assertEqual(len(functions), len(here | own), path)
+                self.assertFalse(stored & (own | here), (path, kind.name))
+                properties, methods, attributes = properties | here, methods | own, attributes | stored
+        # A property is told from all else by its name alone.
+        self.assertFalse(properties & (methods | attributes | METHODS | FOREIGN))
+        self.assertFalse((attributes | methods) & (UNSAID | BARRED))
+        self.assertFalse(attributes & {"items", "keys", "values", "pop", "update", "append", "clear", "extend", "insert", "remove",
+                                       "reverse", "setdefault", "sort", "args", "encode", "decode", "hex", "fromhex", "format"})
+
+    def test_what_is_made_at_module_level(self):
+        for path, tree in trees():
+            functions = {node.name for node in tree.body if isinstance(node, ast.FunctionDef)}
+            for node in tree.body:
+                if isinstance(node, ast.Assign):
+                    for part in ast.walk(node.value):
+                        self.assertNotIsInstance(part, (ast.Call, ast.ListComp, ast.DictComp, ast.GeneratorExp), (path, node.lineno))
+                        self.assertFalse(isinstance(part, ast.Name) and part.id not in functions, (path, node.lineno))
+
+    def test_words_and_loops(self):
+        for path, tree in trees():
+            imported = {name.asname or name.name for node in tree.body if isinstance(node, ast.ImportFrom) for name in node.names}
+            for node in ast.walk(tree):
+                where = (path, getattr(node, "lineno", 0))
+                self.assertNotIsInstance(node, (ast.GeneratorExp, ast.Yield, ast.YieldFrom, ast.Match, ast.Lambda), where)
+                if isinstance(node, ast.Constant) and isinstance(node.value, str):
+                    self.assertNotIn(node.value, UNSAID, where)
+                if isinstance(node, ast.Raise) and node.exc is not None:
+                    self.assertIsInstance(node.exc, ast.Call, where)
+                if isinstance(node, ast.FunctionDef):
+                    self.assertFalse(imported & {one.arg for one in ast.walk(node) if isinstance(one, ast.arg)}, where)
+                if isinstance(node, ast.JoinedStr):
+                    self.assertFalse([one for part in node.values if isinstance(part, ast.FormattedValue) for one in ast.walk(part.value)
+                                      if isinstance(one, (ast.JoinedStr, ast.Constant))], where)
+
+
+def is_property(node):
+    return any(isinstance(one, ast.Name) and one.id == "property" for one in node.decorator_list)

@@ -50,6 +50,9 @@ class Maps(PlainCase):
             do_map, KEPT, ("hdel m b", number(1), {"m": a_map("a=1 c=", 70)}), ("hdel m c x c a", number(2), {"m": a_map("b=x", 70)}),
             ("hdel m x 1", number(0), {}), ("hdel o f f", number(1), {"o": None}), ("hdel m a b c", number(3), {"m": None}),
             ("hdel n a", number(0), {}), ("hdel t a", error("kind"), {}))
+        # A key and a word that are fields, too.
+        kept = {"k": a_map("hdel=1 k=2 x=3")}
+        self.lines(do_map, kept, ("hdel k x", number(1), {"k": a_map("hdel=1 k=2")}), ("hmany k x", texts("3"), {}))
 
     def test_hadd(self):
         self.lines(

@@ -36,6 +36,9 @@ class Sets(PlainCase):
             do_set, KEPT, ("srem s b", number(1), {"s": a_set("acd", 70)}), ("srem s b x b d", number(2), {"s": a_set("ac", 70)}),
             ("srem s x ab ''", number(0), {}), ("srem o q q", number(1), {"o": None}), ("srem s d c b a", number(4), {"s": None}),
             ("srem n a", number(0), {}), ("srem t a", error("kind"), {}))
+        # A key and a word that are members, too.
+        kept = {"k": ("set", ("k", "srem", "x"), None)}
+        self.lines(do_set, kept, ("srem k x", number(1), {"k": ("set", ("k", "srem"), None)}), ("sadd k x", number(0), {}), ("shas k x", texts(1), {}))
 
     def test_reading(self):
         self.lines(

@@ -117,8 +117,7 @@ def _drop(command, entries):
     members = value_at(entries, key)
     count = number_of(told_count)
     places = [place for place, member in enumerate(members) if member == text]
-    if count != 0:
-        places = places[:count] if count > 0 else places[count:]
+    places = places[:count] if count > 0 else places[count:]
     rest = tuple([member for place, member in enumerate(members) if place not in places])
     return number_reply(len(places)), renewed(entries, key, "list", rest)
 

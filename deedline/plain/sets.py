@@ -70,9 +70,8 @@ def _smove(command, entries):
     members = value_at(entries, key)
     if text not in members:
         return number_reply(0), {}
-    if key == other:
-        return number_reply(1), {}
     changes = renewed(entries, key, "set", _less(members, (text,)))
+    # With one key twice, its set as it was stands in the place of the rest.
     changes.update(renewed(entries, other, "set", _ascending((*value_at(entries, other), text))))
     return number_reply(1), changes
 

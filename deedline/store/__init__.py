@@ -1,0 +1,1 @@
+"""The store, and the room that it has."""
