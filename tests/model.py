@@ -287,7 +287,7 @@ class Model:
     def together(self, word, keys):
         first, *others = [set(members or ()) for members in self.look("set", *keys)]
         made = {"sinter": first.intersection, "sunion": first.union, "sdiff": first.difference}[word](*others)
-        if len(made) > 200:
+        if len(made) > 1000:
             raise Wrong("size")
         return made
 

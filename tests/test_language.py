@@ -3,6 +3,7 @@
 import ast
 import builtins
 import pathlib
+import re
 import unittest
 
 ROOT = pathlib.Path(__file__).resolve().parent.parent
@@ -27,6 +28,9 @@ BARRED = set(
     "copyright credits delattr dir eval exec exit gc getattr globals hasattr help id importlib license locals "
     "methodcaller os quit setattr type vars".split())
 UNSAID = set("type typing enum Enum Flag Generic Protocol ABC namedtuple dataclass overload contextmanager abstractmethod".split())
+# How no name begins (L12), and what none is, also with digits or underscores behind it.
+BEGINNINGS = ("_wall", "_pe_", "_dcw_", "_enum_", "_cm_", "_twin_re_", "_lay_", "_law_", "_stub_", "_sre", "_WallAttr")
+WHOLE = ("_cold", "_tuplegetter", "_outside", "_record", "_written_out", "_member_names")
 NODES_BARRED = (ast.Global, ast.AsyncFunctionDef, ast.AsyncFor, ast.AsyncWith, ast.Await, ast.Div, ast.MatMult,
                 ast.Import, ast.TryStar)
 
@@ -55,7 +59,44 @@ def bound(tree):
             yield from (name.asname or name.name for name in node.names)
 
 
+def all_names(tree):
+    """All names that stand in a file, whatever they name, those of methods, attributes, keywords and slots among them."""
+    for node in ast.walk(tree):
+        for _, told in ast.iter_fields(node):
+            for value in told if isinstance(told, list) else [told]:
+                if isinstance(value, str) and not isinstance(node, ast.Constant):
+                    yield from value.split(".")
+                if isinstance(node, ast.Constant) and isinstance(value, str) and value.isidentifier():
+                    yield value
+
+
+def barred_names(text):
+    """The names and words of a file that L12 forbids."""
+    found = [name for name in all_names(ast.parse(text)) if name.startswith(BEGINNINGS) or name.rstrip("0123456789_") in WHOLE]
+    return sorted({*found, *re.findall(r"(?<!\w)(?:_wall|_WallAttr)(?!\w)", text)})
+
+
 class Language(unittest.TestCase):
+    def test_names_that_are_forbidden(self):
+        for path in FILES:
+            self.assertEqual(barred_names(path.read_text()), [], path)
+            self.assertEqual(barred_names("%s = 0" % path.stem), [], path)
+
+    def test_forbidden_names_are_found(self):
+        ways = ("%s = 0", "def %s(a):\n    pass", "def f(%s):\n    pass", "class C:\n    def %s(self):\n        pass", "x.%s = 0", "x = y.%s",
+                "f(%s=1)", "from a.b import %s", "from a.%s import b", "from a import b as %s", "class %s:\n    pass", "for %s in x:\n    pass",
+                "x = [0 for %s in y]", "x = lambda %s: 0", "class C:\n    __slots__ = ('%s',)", "def f(*%s):\n    pass", "def f(a, **%s):\n    pass",
+                "def f():\n    x = 0\n    def g():\n        nonlocal %s\n", "try:\n    f()\nexcept E as %s:\n    pass", "match x:\n    case [%s]:\n        pass",
+                "match x:\n    case [*%s]:\n        pass", "match x:\n    case 1 as %s:\n        pass")
+        bad = [word + more for word in BEGINNINGS for more in ("", "m", "1", "_x")] + [word + more for word in WHOLE for more in ("", "1", "_", "_2_", "__")]
+        for way in ways:
+            for name in bad:
+                self.assertEqual(barred_names(way % name), [name], way)
+            for name in ("_wal", "wall", "_sr", "srem", "_recorded", "_coldly", "x_record", "_lay", "_law", "_take_out", "_cm", "_outsides"):
+                self.assertEqual(barred_names(way % name), [], way)
+        for line in ("# a _wall here", "x = 'so: _WallAttr.'", '"""_wall"""'):
+            self.assertEqual(len(barred_names(line)), 1, line)
+
     def test_files(self):
         self.assertTrue(FILES)
         for path in (ROOT / "deedline").rglob("*"):

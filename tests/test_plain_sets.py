@@ -1,5 +1,6 @@
 """Stage 12: sets."""
 
+from deedline.base.replies import is_reply
 from deedline.plain import sets as module
 from deedline.plain.sets import do_set
 from tests.helpers import ENTRIES, MOST
@@ -76,7 +77,18 @@ class Sets(PlainCase):
             ("sdiff t t", error("kind"), {}))
         one, other = ("set", ROW[:150], None), ("set", ROW[100:200], None)
         kept = {"a": one, "b": other, "c": ("set", ROW[200:], None)}
-        self.lines(do_set, kept, ("sunion a b", texts(*ROW[:200]), {}), ("sunion a b c", error("size"), {}), ("sinter a b", texts(*ROW[100:150]), {}))
+        self.lines(do_set, kept, ("sunion a b", texts(*ROW[:200]), {}), ("sunion a b c", texts(*ROW), {}), ("sinter a b", texts(*ROW[100:150]), {}))
+
+    def test_what_is_told_is_no_value(self):
+        # A list of a reply has up to 1,000 members; a value has up to 200.
+        kept = {"k%d" % at: ("set", tuple("%d.%03d" % (at, number) for number in range(200)), 9) for at in range(5)}
+        kept["one"] = a_set("x")
+        members = [text for key in sorted(kept) for text in kept[key][1]]
+        self.lines(do_set, kept, ("sunion k0 one", texts(*members[:200], "x"), {}), ("sunion k1 k0", texts(*members[:400]), {}),
+                   ("sunion k0 k1 k2 k3 k4", texts(*members[:1000]), {}), ("sunion k4 k0 k1 k2 k3 k0", texts(*members[:1000]), {}),
+                   ("sunion k0 k1 k2 k3 k4 one", error("size"), {}), ("sinter k0 one", texts(), {}), ("sdiff k0 one k1", texts(*members[:200]), {}),
+                   ("sunionto n k0 one", error("size"), {}), ("sunionto k0 k0 k1", error("size"), {}), ("smove one k0 x", error("size"), {}))
+        self.assertIs(is_reply(do_set(("sunion", "k0", "k1", "k2", "k3", "k4"), kept)[0]), True)
 
     def test_together_to_a_key(self):
         self.lines(

@@ -9,7 +9,8 @@ CODES = (
     "broken", "busy", "copy", "idle", "kind", "missing", "nested", "number",
     "place", "range", "room", "size", "syntax", "unknown", "words",
 )
-_MAX_MEMBERS = 1000
+# The most members of a list.
+MAX_LISTED = 1000
 _MAX_DEEP = 4
 
 
@@ -36,7 +37,7 @@ def _is_reply(value, deep):
 
 def _are_members(value, deep):
     """Whether the value is a tuple of replies that one list can have."""
-    if not isinstance(value, tuple) or len(value) > _MAX_MEMBERS:
+    if not isinstance(value, tuple) or len(value) > MAX_LISTED:
         return False
     return all([_is_reply(reply, deep) for reply in value])
 

@@ -1,10 +1,9 @@
 """The words of sets."""
 
-from deedline.base.replies import list_reply, number_reply, texts_reply
+from deedline.base.replies import MAX_LISTED, list_reply, number_reply, texts_reply
 from deedline.base.words import number_of
 from deedline.plain.grammar import keys_of
 from deedline.plain.steps import behind, check_call, refused, renewed, replaced, stepped, told, value_at
-from deedline.shape.packs import MAX_MEMBERS
 
 SET_WORDS = (
     "sadd", "scount", "sdiff", "sdiffto", "shas", "sinter", "sinterto", "smembers", "smove", "spop", "srem",
@@ -45,7 +44,7 @@ def _sadd(command, entries):
     return number_reply(len(made) - len(members)), renewed(entries, key, "set", made)
 
 
-def _srem(command, entries):
+def _take_out(command, entries):
     key = command[1]
     members = value_at(entries, key)
     made = _less(members, command[2:])
@@ -97,8 +96,8 @@ def _combined(word, rows):
 
 def _combine(command, entries):
     members = _combined(command[0], [value_at(entries, key) for key in command[1:]])
-    # As many are no value of a set, and can be more than a reply can have.
-    if len(members) > MAX_MEMBERS:
+    # What is told is no value: only a list that is no reply is too long.
+    if len(members) > MAX_LISTED:
         return refused("size")
     return texts_reply(members), {}
 
@@ -111,5 +110,5 @@ def _combine_to(command, entries):
 _ACTIONS = {
     "sadd": _sadd, "scount": _scount, "sdiff": _combine, "sdiffto": _combine_to, "shas": _shas,
     "sinter": _combine, "sinterto": _combine_to, "smembers": _smembers, "smove": _smove, "spop": _spop,
-    "srem": _srem, "sunion": _combine, "sunionto": _combine_to,
+    "srem": _take_out, "sunion": _combine, "sunionto": _combine_to,
 }
