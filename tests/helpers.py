@@ -6,12 +6,15 @@ import unittest
 
 from deedline import errors
 from deedline.base.letters import Reader
+from deedline.disk.disk import Disk
 from deedline.shape.maps import Fields
 from deedline.shape.packs import Bounds, Pack
 from deedline.shape.sets import Members
 from deedline.shape.skips import Skips
 from deedline.shape.sorts import Scores
 from deedline.shape.tables import Table
+from deedline.store.core import Store
+from deedline.store.events import Listeners
 from deedline.store.room import Marks
 
 KEPT_AS = {
@@ -40,7 +43,7 @@ def values():
         ["done"], {}, {"a": "b"}, {1: 2}, {"a": [1]}, {(): ()}, deep, (((((((("a",),),),),),),),), {"a": {"b": [(1,)]}},
         Table(), Bounds(1, 1, 0, 0), Bounds.usual(), Pack(Bounds.usual(), ("a",)), Members(Bounds.usual(), ("a",)),
         Skips(((1, "a"),)), Scores(Bounds.usual(), ((1, "a"),)), Fields(Bounds.usual(), (("a", "b"),)),
-        Reader("commands"), Marks(), errors.DeedError(), errors.InvalidText("a"), errors.TooMany(200), errors.UnknownName(["a"]),
+        Reader("commands"), Marks(), Store({"a": ("text", "b", None)}), Disk(), Listeners(), errors.DeedError(), errors.InvalidText("a"), errors.TooMany(200), errors.UnknownName(["a"]),
     ]
 
 

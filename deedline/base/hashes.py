@@ -1,6 +1,6 @@
 """Hashes of texts, their spots, and check sums."""
 
-from deedline.base.words import check_text, check_within
+from deedline.base.words import check_count, check_text, check_within, is_printed
 from deedline.errors import InvalidNumber, InvalidText
 
 HASH_BITS = 16
@@ -25,17 +25,20 @@ def spot_of(text):
 
 def sum_of(signs):
     """The check sum of printable signs and newlines."""
-    if not _are_signs(signs):
-        raise InvalidText(signs)
+    check_signs(signs)
     total = sum([ord(sign) * (at + 1) for at, sign in enumerate(signs)])
     return total % SUM_MODULUS
 
 
-def _are_signs(value):
-    if not isinstance(value, str):
-        return False
-    shown = value.replace("\n", "")
-    return shown.isascii() and shown.isprintable()
+def are_signs(value):
+    """Whether the value is a string of printable signs and newlines."""
+    return isinstance(value, str) and is_printed(value.replace("\n", ""))
+
+
+def check_signs(signs):
+    """Raises InvalidText if it is no string of printable signs and newlines."""
+    if not are_signs(signs):
+        raise InvalidText(signs)
 
 
 def reversed_bits(value, bits):
@@ -57,9 +60,7 @@ def bucket_spots(bucket, bits):
 
 def _check_bits(value, bits, most):
     """Raises InvalidNumber if the value has not just so many bits, or they are more than told."""
-    is_count = isinstance(value, int) and not isinstance(value, bool) and value >= 0
-    if not is_count:
-        raise InvalidNumber(value)
+    check_count(value)
     check_within(bits, 0, most)
     if value >= 1 << bits:
         raise InvalidNumber(value)

@@ -16,10 +16,20 @@ def is_within(value, least, most):
     return isinstance(value, int) and not isinstance(value, bool) and least <= value <= most
 
 
+def is_count(value, least=0):
+    """Whether the value is an integer of at least so much."""
+    return isinstance(value, int) and not isinstance(value, bool) and value >= least
+
+
+def is_printed(value):
+    """Whether the value is a string of signs, as long as it may be."""
+    # Among the ASCII characters, just the 95 signs are printable.
+    return isinstance(value, str) and value.isascii() and value.isprintable()
+
+
 def is_text(value):
     """Whether the value is a text."""
-    # Among the ASCII characters, just the 95 signs are printable.
-    return isinstance(value, str) and len(value) <= MAX_TEXT and value.isascii() and value.isprintable()
+    return is_printed(value) and len(value) <= MAX_TEXT
 
 
 def is_key(value):
@@ -65,6 +75,13 @@ def check_time(now):
         raise InvalidTime(now)
 
 
+def check_not_ahead(now, time):
+    """Raises InvalidTime if it is no time, or less than another one."""
+    check_time(now)
+    if now < time:
+        raise InvalidTime(now)
+
+
 def check_command(command):
     """Raises InvalidCommand if it is no command."""
     if not is_command(command):
@@ -80,6 +97,12 @@ def check_whole(number):
 def check_within(number, least, most):
     """Raises InvalidNumber if it is no integer from `least` to `most`."""
     if not is_within(number, least, most):
+        raise InvalidNumber(number)
+
+
+def check_count(number, least=0):
+    """Raises InvalidNumber if it is no integer of at least so much."""
+    if not is_count(number, least):
         raise InvalidNumber(number)
 
 

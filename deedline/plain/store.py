@@ -1,7 +1,7 @@
 """The plain store: commands done at a time, and the deeds that they make."""
 
 from deedline.base.replies import error_reply
-from deedline.base.words import check_command, check_time, is_command, is_key, is_time
+from deedline.base.words import check_command, check_time, is_command, is_key, is_time, is_within
 from deedline.errors import InvalidCommand, InvalidOperation
 from deedline.plain.grammar import does_write, first_error, keys_of
 from deedline.plain.keys import keys_step
@@ -12,9 +12,10 @@ from deedline.plain.sorts import SORTED_WORDS, sorted_step
 from deedline.plain.steps import behind
 from deedline.plain.texts import TEXT_WORDS, text_step
 from deedline.plain.times import is_over, over_keys, shown_at, timed
-from deedline.shape.entries import MAX_KEYS, check_entry, check_store
+from deedline.shape.entries import MAX_KEYS, check_entry, check_store, is_store
 
-_MAX_BLOCK = 64
+MAX_BLOCK = 64
+MAX_PLACE = 10 ** 12
 
 
 def is_deed(value):
@@ -65,21 +66,18 @@ def do(command, entries, now):
     check_command(command)
     check_store(entries)
     check_time(now)
-    return _done(command, behind(entries, {}), now)
+    return done_at(command, behind(entries, {}), now)
 
 
 def do_block(commands, entries, now):
     """The replies to some commands, done one after another at one time, the entries, and all deeds."""
-    if not isinstance(commands, tuple) or len(commands) > _MAX_BLOCK:
-        raise InvalidCommand("no tuple of commands")
-    for command in commands:
-        check_command(command)
+    check_block(commands)
     check_store(entries)
     check_time(now)
     replies, deeds = [], []
     entries = behind(entries, {})
     for command in commands:
-        reply, entries, made = _done(command, entries, now)
+        reply, entries, made = done_at(command, entries, now)
         replies.append(reply)
         deeds.extend(made)
     return tuple(replies), entries, tuple(deeds)
@@ -100,14 +98,13 @@ def resolved(command, now):
 def apply(entries, deed):
     """The entries behind a deed."""
     check_store(entries)
-    _check_deed(deed)
-    return _applied(behind(entries, {}), deed)
+    check_deed(deed)
+    return applied_to(behind(entries, {}), deed)
 
 
 def changed_keys(entries, deed):
     """The ascending tuple of the keys whose entries are unlike behind a deed."""
-    after = apply(entries, deed)
-    return tuple([key for key in sorted({**entries, **after}) if entries.get(key) != after.get(key)])
+    return unlike_keys(entries, apply(entries, deed))
 
 
 def replay(units, entries=None):
@@ -120,14 +117,47 @@ def replay(units, entries=None):
     entries = behind(entries, {})
     for _, deeds in units:
         for deed in deeds:
-            entries = _applied(entries, deed)
+            entries = applied_to(entries, deed)
     return entries
 
 
-def _check_deed(deed):
+def check_block(commands):
+    """Raises InvalidCommand if it is no tuple of commands, or they are too many for a block."""
+    if not isinstance(commands, tuple) or len(commands) > MAX_BLOCK:
+        raise InvalidCommand("no tuple of commands")
+    for command in commands:
+        check_command(command)
+
+
+def check_deed(deed):
     """Raises InvalidOperation if it is no deed."""
     if not is_deed(deed):
         raise InvalidOperation("no deed")
+
+
+def check_unit(unit):
+    """Raises InvalidOperation if it is no unit."""
+    if not is_unit(unit):
+        raise InvalidOperation("no unit")
+
+
+def is_snapshot(value):
+    """Whether the value is a triple of a plain store, the place behind which it was kept, and a time."""
+    if not isinstance(value, tuple) or len(value) != 3:
+        return False
+    entries, place, time = value
+    return is_store(entries) and is_within(place, 0, MAX_PLACE) and is_time(time)
+
+
+def check_snapshot(snapshot):
+    """Raises InvalidOperation if it is no snapshot."""
+    if not is_snapshot(snapshot):
+        raise InvalidOperation("no snapshot")
+
+
+def unlike_keys(before, after):
+    """The ascending tuple of the keys whose entries are unlike in two plain stores."""
+    return tuple([key for key in sorted({**before, **after}) if before.get(key) != after.get(key)])
 
 
 def _step(command, entries, now):
@@ -146,7 +176,7 @@ def _step(command, entries, now):
     return keys_step(command, entries, now)
 
 
-def _done(command, entries, now):
+def done_at(command, entries, now):
     """What `do` returns, with arguments that are right."""
     error = first_error(command)
     if error is not None:
@@ -174,7 +204,7 @@ def _written(deed, entries, now):
     return reply, _without(after, further), (*_gone(taken), *_gone(further), deed)
 
 
-def _applied(entries, deed):
+def applied_to(entries, deed):
     """The entries behind a deed, with arguments that are right."""
     if deed[0] in ("gone", "out"):
         return _without(entries, deed[1:])

@@ -111,6 +111,11 @@ def shape_of(thing):
 def value_size(kind, value):
     """The size of a plain value of a kind."""
     _check_plain(kind, value)
+    return _held_value_size(kind, value)
+
+
+def _held_value_size(kind, value):
+    """What `value_size` returns, with arguments that are right."""
     if kind == "text":
         return len(value)
     if kind == "sorted":
@@ -124,14 +129,19 @@ def entry_size(key, entry):
     """The size of a key with its entry."""
     check_key(key)
     check_entry(entry)
+    return held_size(key, entry)
+
+
+def held_size(key, entry):
+    """What `entry_size` returns, with arguments that are right."""
     kind, value, _ = entry
-    return value_size(kind, value) + len(key) + KEY_SIZE
+    return _held_value_size(kind, value) + len(key) + KEY_SIZE
 
 
 def store_size(entries):
     """The size of a plain store."""
     check_store(entries)
-    return sum([entry_size(key, entry) for key, entry in entries.items()])
+    return sum([held_size(key, entry) for key, entry in entries.items()])
 
 
 def _check_kind(kind):

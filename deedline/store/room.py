@@ -1,14 +1,14 @@
 """Running out, sweeping, and how room is made."""
 
-from deedline.base.words import check_key, check_time, check_within, is_key
+from deedline.base.words import check_key, check_time, check_within, is_count, is_key
 from deedline.errors import InvalidOperation
 from deedline.plain.times import over_keys, shown_at
-from deedline.shape.entries import check_store, entry_size, store_size
+from deedline.shape.entries import check_store, held_size
 from deedline.shape.kept import Kept
 
 POLICIES = ("idle", "nearest", "refuse")
-_MAX_BUDGET = 200
-_MAX_BOUND = 10 ** 12
+MAX_BUDGET = 200
+MAX_BOUND = 10 ** 12
 
 
 def run_out(entries, now):
@@ -22,7 +22,7 @@ def sweep_deeds(entries, now, budget):
     """The tuple of the deeds of a sweep that takes at most so many keys."""
     check_store(entries)
     check_time(now)
-    check_within(budget, 0, _MAX_BUDGET)
+    check_within(budget, 0, MAX_BUDGET)
     return tuple([("gone", key) for key in over_keys(entries, now)[:budget]])
 
 
@@ -30,7 +30,7 @@ def order_out(entries, now, policy, marks):
     """The tuple of the shown keys that can be put out, in the order of the policy."""
     check_store(entries)
     check_time(now)
-    _check_policy(policy)
+    check_policy(policy)
     _check_marks(marks)
     return _ordered_out(entries, now, policy, marks)
 
@@ -39,17 +39,22 @@ def room_deeds(entries, now, bound, policy, marks, named):
     """The tuple of the deeds by which room is made behind a unit that names some keys, or None."""
     check_store(entries)
     check_time(now)
-    check_within(bound, 1, _MAX_BOUND)
-    _check_policy(policy)
+    check_within(bound, 1, MAX_BOUND)
+    check_policy(policy)
     _check_marks(marks)
     _check_named(named)
+    return room_made(entries, now, bound, policy, marks, named)
+
+
+def room_made(entries, now, bound, policy, marks, named):
+    """What `room_deeds` returns, with arguments that are right."""
+    size = sum([held_size(key, entry) for key, entry in entries.items()])
     out = [key for key in _ordered_out(entries, now, policy, marks) if key not in named]
     ways = [("gone", key) for key in over_keys(entries, now)] + [("out", key) for key in out]
-    size = store_size(entries)
     many = 0
     while size > bound and many < len(ways):
         _, key = ways[many]
-        size -= entry_size(key, entries[key])
+        size -= held_size(key, entries[key])
         many += 1
     return tuple(ways[:many]) if size <= bound else None
 
@@ -112,7 +117,7 @@ def _ordered_out(entries, now, policy, marks):
     return tuple([key for _, key in sorted(pairs)])
 
 
-def _check_policy(policy):
+def check_policy(policy):
     """Raises InvalidOperation if it is no policy."""
     if policy not in POLICIES:
         raise InvalidOperation("no policy")
@@ -120,12 +125,8 @@ def _check_policy(policy):
 
 def _check_marks(marks):
     """Raises InvalidOperation if it is no dict from keys to marks."""
-    if not isinstance(marks, dict) or not all([is_key(key) and _is_mark(mark) for key, mark in marks.items()]):
+    if not isinstance(marks, dict) or not all([is_key(key) and is_count(mark) for key, mark in marks.items()]):
         raise InvalidOperation("no marks")
-
-
-def _is_mark(value):
-    return isinstance(value, int) and not isinstance(value, bool) and value >= 0
 
 
 def _check_named(named):

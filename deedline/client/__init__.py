@@ -1,0 +1,1 @@
+"""Clients of a store: blocks, watches, waiting, and the server."""

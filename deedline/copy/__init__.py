@@ -1,0 +1,1 @@
+"""Copies of a store: nodes, and groups of them."""

@@ -1,0 +1,1 @@
+"""Lines of words, and a shell that does them."""
