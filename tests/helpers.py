@@ -6,7 +6,13 @@ import unittest
 
 from deedline import errors
 from deedline.base.letters import Reader
+from deedline.client.blocks import Session
+from deedline.client.server import Server
+from deedline.client.waits import Waits
+from deedline.copy.group import Group
+from deedline.copy.nodes import Node
 from deedline.disk.disk import Disk
+from deedline.disk.keeper import Keeper
 from deedline.shape.maps import Fields
 from deedline.shape.packs import Bounds, Pack
 from deedline.shape.sets import Members
@@ -16,6 +22,7 @@ from deedline.shape.tables import Table
 from deedline.store.core import Store
 from deedline.store.events import Listeners
 from deedline.store.room import Marks
+from deedline.text.shell import Shell
 
 KEPT_AS = {
     errors.InvalidText: "value", errors.InvalidTime: "value", errors.InvalidNumber: "value",
@@ -43,7 +50,9 @@ def values():
         ["done"], {}, {"a": "b"}, {1: 2}, {"a": [1]}, {(): ()}, deep, (((((((("a",),),),),),),),), {"a": {"b": [(1,)]}},
         Table(), Bounds(1, 1, 0, 0), Bounds.usual(), Pack(Bounds.usual(), ("a",)), Members(Bounds.usual(), ("a",)),
         Skips(((1, "a"),)), Scores(Bounds.usual(), ((1, "a"),)), Fields(Bounds.usual(), (("a", "b"),)),
-        Reader("commands"), Marks(), Store({"a": ("text", "b", None)}), Disk(), Listeners(), errors.DeedError(), errors.InvalidText("a"), errors.TooMany(200), errors.UnknownName(["a"]),
+        Reader("commands"), Marks(), Store({"a": ("text", "b", None)}), Listeners(), Disk(), Keeper(Disk(), 1), Session(Store()), Waits(Store()),
+        Server(Store()), Node("a"), Group(("a", "b")), Shell(Store()), errors.DeedError(), errors.InvalidText("a"), errors.TooMany(200),
+        errors.UnknownName(["a"]),
     ]
 
 

@@ -24,7 +24,7 @@ class Client:
         self.reader = Reader("commands")
         self.session = Session(store)
         # The commands that are not done yet, perhaps with None behind them: it stands for a bad sign.
-        self.rest = []
+        self.todo = []
 
     def read(self, piece):
         """The list of the commands that a piece makes whole, with None behind them if a bad sign comes."""
@@ -77,7 +77,7 @@ class Server:
     def held(self, name):
         """The tuple of the commands that a client holds."""
         self._check_name(name)
-        return tuple([thing for thing in self._clients[name].rest if thing is not None])
+        return tuple([thing for thing in self._clients[name].todo if thing is not None])
 
     def feed(self, name, piece, now):
         """Takes a piece of letters of a client, and returns the tuple of all that is told in this call."""
@@ -89,7 +89,7 @@ class Server:
         told = []
         self._end_waits(now, told)
         for thing in client.read(piece):
-            client.rest.append(thing)
+            client.todo.append(thing)
             if name in self._clients and name not in self._waits:
                 self._go_on([name], now, told)
         return tuple(told)
@@ -124,12 +124,12 @@ class Server:
         row = list(row)
         while row:
             name = row.pop(0)
-            while name in self._clients and self._clients[name].rest and name not in self._waits:
+            while name in self._clients and self._clients[name].todo and name not in self._waits:
                 row.extend(self._do_next(name, now, told))
 
     def _do_next(self, name, now, told):
         """Does the next command of a client, and returns the names of those who were served behind it."""
-        thing = self._clients[name].rest.pop(0)
+        thing = self._clients[name].todo.pop(0)
         before, place = self._store.kept(), self._store.place
         reply = self._reply(name, thing, now)
         if reply is None:

@@ -28,7 +28,7 @@ class Store(Kept):
         self._bounds = bounds
         self._bound = bound
         self._policy = policy
-        self._begin = place
+        self._first_place = place
         self._now = now
         self._last = now
         self._shelf = Shelf(bounds, entries)
@@ -67,7 +67,7 @@ class Store(Kept):
     @property
     def begin(self):
         """The place at which the line begins here."""
-        return self._begin
+        return self._first_place
 
     @property
     def units(self):
@@ -77,7 +77,7 @@ class Store(Kept):
     @property
     def place(self):
         """The place behind the last unit."""
-        return self._begin + len(self._units)
+        return self._first_place + len(self._units)
 
     @property
     def now(self):
@@ -154,17 +154,17 @@ class Store(Kept):
 
     def units_from(self, place):
         """The tuple of the units from a place on."""
-        check_within(place, self._begin, self.place)
-        return tuple(self._units[place - self._begin:])
+        check_within(place, self._first_place, self.place)
+        return tuple(self._units[place - self._first_place:])
 
     def changed(self, place):
         """For each deed of the unit at a place the ascending tuple of the keys whose entries it changed."""
-        check_within(place, self._begin, self.place - 1)
-        return self._changed[place - self._begin]
+        check_within(place, self._first_place, self.place - 1)
+        return self._changed[place - self._first_place]
 
     def twin(self):
         """An independent equal store with the same shapes and marks."""
-        other = Store(bounds=self._bounds, policy=self._policy, place=self._begin, now=self._now)
+        other = Store(bounds=self._bounds, policy=self._policy, place=self._first_place, now=self._now)
         other._bound = self._bound
         other._last = self._last
         other._shelf = self._shelf.twin()
