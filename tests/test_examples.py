@@ -5,12 +5,16 @@ import pathlib
 import unittest
 
 from deedline.base import hashes, letters, patterns, replies, words
+from deedline.client import server
+from deedline.copy import group, nodes
+from deedline.disk import disk, keeper
+from deedline.disk import texts as disk_texts
 from deedline.plain import grammar, lists, texts
 from deedline.plain import maps as plain_maps
 from deedline.plain import sets as plain_sets
 from deedline.plain import sorts as plain_sorts
 from deedline.shape import entries, maps, packs, sets, skips, sorts, tables
-from deedline.store import room
+from deedline.store import core, room
 
 EXAMPLES = r'''
 >>> [number_reply(-7), texts_reply(("a", "b")), is_reply(("list", (("none",), ("list", ())))), is_reply(("number", True)), is_reply(("error", "kinds")), len(CODES)]
@@ -45,6 +49,24 @@ EXAMPLES = r'''
 >>> KEPT = {"a": ("text", "xx", 40), "b": ("text", "y", None), "c": ("text", "", 90), "d": ("text", "zzz", 20)}
 >>> [run_out(KEPT, 40), order_out(KEPT, 30, "idle", {"a": 7, "b": 2}), room_deeds(KEPT, 30, 53, "idle", {"a": 7, "b": 2}, ("c",))]
 [('d', 'a'), ('c', 'b', 'a'), (('gone', 'd'), ('out', 'b'))]
+>>> disk = Disk()
+>>> [disk.create("log"), disk.append("log", "ab"), disk.sync("log"), disk.append("log", "cd")]
+[None, None, None, None]
+>>> [row_text(("set", "a", "")), rows_of("3:set1:a0:;1:;;"), is_branch(((0, 0), (3, 12))), is_branch(((1, 0),))]
+['3:set1:a0:;', (('set', 'a', ''), (';',)), True, False]
+>>> disk = Disk()
+>>> keeper = Keeper(disk, 1, rule="timed", span=10)
+>>> [disk.read("log"), disk.done, keeper.call(("set", "a", "b"), 5), keeper.open_units, disk.done]
+['deedline 1 0@0,1@0\n0 492 0 0;\n', 5, ('done',), 1, 6]
+>>> server = Server(Store(now=10))
+>>> [server.join("ann"), server.join("bob"), server.feed("ann", write_command(("waitl", "q", "0")) + write_command(("get", "k")), 10), server.feed("bob", "c3:t5:pushr", 11), server.waiting, server.held("ann")]
+[None, None, (), (), ('ann',), (('get', 'k'),)]
+>>> A, B = (((0, 0), (1, 5)), 8), (((0, 0),), 9)
+>>> [is_stand((((0, 0), (1, 9)), 8)), shared_place(A, B), judged(A, B), judged((((0, 0),), 5), A), judged(A, (((0, 0),), 3)), cut(A, 4), is_later(A, B)]
+[False, 5, ('parted', 5), ('behind', 5), ('ahead', 3), (((0, 0),), 4), True]
+>>> group = Group(("a", "b", "c"), stretch=2)
+>>> [group.join("b"), group.call("a", ("set", "k", "1"), 10), group.deliver("b", 9), group.keep("b"), group.acknowledge("b"), group.sure(1), group.sure(2), group.judge("b", "a"), group.judge("c", "a")]
+[('part', 0, 0), ('done',), 1, 1, 1, 1, 0, ('alike', 1), ('behind', 0)]
 '''
 
 
@@ -59,10 +81,10 @@ class Examples(unittest.TestCase):
     def test_the_document(self):
         names = {}
         for module in (hashes, patterns, replies, words, maps, packs, sets, skips, sorts, tables, entries, grammar, texts, lists,
-                       plain_maps, plain_sets, plain_sorts, letters, room):
+                       plain_maps, plain_sets, plain_sorts, letters, room, core, disk, disk_texts, keeper, server, nodes, group):
             names.update(vars(module))
-        self.examples(EXAMPLES, names, 19)
+        self.examples(EXAMPLES, names, 31)
 
     def test_the_readme(self):
         readme = pathlib.Path(__file__).resolve().parent.parent / "README.md"
-        self.examples(readme.read_text().replace("```", ""), {}, 21)
+        self.examples(readme.read_text().replace("```", ""), {}, 43)
