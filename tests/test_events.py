@@ -206,6 +206,10 @@ class Listening(Case):
         some.unlisten("ann")
         self.assertEqual((some.names, len(some), some.publish("a", "y")), (("ann",), 1, 0))
         self.assertEqual((some.taken("ann"), some.names, some.close("ann")), ((("message", "a", "x"),), (), False))
+        some.listen("eve", "a")
+        some.publish("a", "x")
+        some.unlisten("eve")
+        self.assertEqual((some.names, some.close("eve"), some.names, len(some)), (("eve",), True, (), 0))
         some.listen("bob", "a")
         some.publish("a", "x")
         self.assertEqual((some.close("bob"), some.close("bob"), some.names, len(some), some.taken("bob"), some.publish("a", "z")), (True, False, (), 0, (), 0))
@@ -248,6 +252,15 @@ class Listening(Case):
         self.assertEqual([type(row) for row in some.wants("ann")], [tuple] * 3)
         self.assertIs(type(some.taken("ann")), tuple)
         self.unlike(some)
+
+    def test_twin(self):
+        some = Listeners()
+        some.listen("ann", "a")
+        some.publish("a", "x")
+        twin = some.twin()
+        twin.listen("ann", "b")
+        twin.publish("b", "y")
+        self.assertEqual((some.wants("ann"), len(some), twin.wants("ann"), len(twin)), ((("a",), (), ()), 1, (("a", "b"), (), ()), 2))
 
     def test_long_runs(self):
         words = ("", "a", "b", "t1", "l0", "news", "n*", "[a-n]*", "?", "*", "t?", "\\*", "[", "[^t]*", "*1")

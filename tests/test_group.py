@@ -60,7 +60,7 @@ class Making(Case):
             self.refused(InvalidNumber, value, Group, ("a",), stretch=value, queue=0)
         for value in not_integers(1, 60) + [0, 61]:
             self.refused(InvalidNumber, value, Group, ("a",), queue=value, bounds=5)
-        for stretch, queue in ((8, 7), (60, 59), (2, 1)):
+        for stretch, queue in ((8, 7), (60, 59), (2, 1), (0, 0)):
             self.refused(InvalidNumber, queue, Group, ("a",), stretch=stretch, queue=queue, bounds=5)
         for value in not_of(Bounds, type(None)):
             self.refused(InvalidOperation, None, Group, ("a",), bounds=value, bound=0)

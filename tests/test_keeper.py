@@ -186,6 +186,10 @@ class Calling(Case):
             keeper.call(("add", "n", "1"), 10 ** at)
         self.assertEqual([disk.taken(), keeper.open_units, disk.unsynced("log") > 0], [["append log"] * 3, 3, True])
         self.assertEqual([keeper.sync(), disk.taken(), keeper.open_units, disk.unsynced("log"), keeper.sync(), disk.taken()], [None, ["sync log"], 0, 0, None, ["sync log"]])
+        keeper, disk = self.keeper(rule="never", span=1)
+        self.assertEqual([keeper.call(("add", "n", "1"), 5), keeper.call(("add", "n", "1"), 500), disk.taken()], [number(1), number(2), ["append log"] * 2])
+        keeper, disk = self.keeper(rule="timed", span=END)
+        self.assertEqual([keeper.call(("add", "n", "1"), 0), keeper.call(("get", "n"), END - 1), disk.taken(), keeper.call(("get", "n"), END), disk.taken()], [number(1), text("1"), ["append log"], text("1"), ["sync log"]])
 
     def test_timed(self):
         keeper, disk = self.keeper(rule="timed", span=10)
@@ -401,8 +405,9 @@ class Power(Case):
         return line[:start] + store.units, max(sure, keeper.place - keeper.open_units), False
 
     def closed(self, keeper, steps, now):
-        """All eight raise it again."""
-        for call in (lambda: keeper.call(("get", "a"), max(now, 10 ** 9)), lambda: keeper.act(len, 10 ** 9), keeper.sync, keeper.close, keeper.start, lambda: keeper.go_on(1), keeper.finish, keeper.stop):
+        """All eight raise it again, whichever comes first."""
+        calls = (lambda: keeper.call(("get", "a"), max(now, 10 ** 9)), lambda: keeper.act(len, 10 ** 9), keeper.sync, keeper.close, keeper.start, lambda: keeper.go_on(1), keeper.finish, keeper.stop)
+        for call in calls[steps % 8:] + calls[:steps % 8]:
             self.refused(PowerLost, steps, call)
 
     def founds(self, disk, pick, steps):

@@ -80,7 +80,8 @@ class Language(unittest.TestCase):
     def test_names_that_are_forbidden(self):
         for path in FILES:
             self.assertEqual(barred_names(path.read_text()), [], path)
-            self.assertEqual(barred_names("%s = 0" % path.stem), [], path)
+            for name in path.relative_to(ROOT).with_suffix("").parts:
+                self.assertEqual(barred_names("%s = 0" % name), [], path)
 
     def test_forbidden_names_are_found(self):
         ways = ("%s = 0", "def %s(a):\n    pass", "def f(%s):\n    pass", "class C:\n    def %s(self):\n        pass", "x.%s = 0", "x = y.%s",

@@ -262,7 +262,8 @@ class Logs(Case):
         for value in not_branches():
             self.refused(InvalidOperation, None, log_text, value, ({}, 0, 0), ())
         for value in not_snapshots():
-            self.refused(InvalidOperation, None, log_text, ((0, 0),), value, ())
+            for units in ((), UNITS, 5):
+                self.refused(InvalidOperation, None, log_text, ((0, 0),), value, units)
         for value in values() + [((5, (("clear",),)), (4, (("clear",),))), [(5, (("clear",),))]]:
             if not is_line(value):
                 self.refused(InvalidOperation, None, log_text, ((0, 0),), ({}, 0, 0), value)

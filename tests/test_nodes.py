@@ -168,6 +168,11 @@ class Making(Case):
         other.call(("get", "a"), 5)
         self.assertFalse(node == other)
         self.unlike(node)
+        one, other = Node("a", stretch=0), Node("a", stretch=0)
+        one.call(("add", "n", "1"), 5)
+        other.call(("add", "n", "2"), 5)
+        self.assertFalse(one == other)
+        self.assertTrue(one == one.twin())
 
 
 class Leading(Case):
@@ -240,6 +245,7 @@ class Following(Case):
         self.assertEqual((node.stand, node.kept_stand, node.entries()), ((((0, 0), (3, 5), (4, 6)), 6), (((0, 0),), 4), {"b": ("text", "8", None)}))
         node.apply(units[2], ((0, 0), (3, 5), (4, 6)))
         self.assertEqual((node.stand, node.stretch, node.line_time, node.now), ((((0, 0), (3, 5), (4, 6)), 7), units[1:], 12, 12))
+        self.assertEqual((node.call(("get", "b"), 12), node.call(("exists", "a"), 12)), ((text("8"), ()), (number(0), ())))
         # Its time can be ahead of a unit's.
         node.call(("get", "b"), 40)
         node.apply((30, (("del", "b"),)), ((0, 0), (3, 5), (4, 6)))

@@ -15,7 +15,7 @@ from tests.model_store import Times
 from tests.plain import DONE, NONE, error, number, text, texts, words_of
 
 QUEUED = text("queued")
-WIDE = ["w%d" % at for at in range(60)]
+WIDE = ["w%d" % at for at in range(63)]
 
 
 def letters(*lines):
@@ -91,6 +91,13 @@ class Clients(ServerCase):
         self.assertEqual(server.feed("ann", "t4:ping;;", 6), ())
         self.assertEqual(server.held("ann"), (("get", "a"), ("ping",)))
 
+    def test_long_pieces(self):
+        server = made("ann", "bob")
+        ping = letters("ping")
+        self.assertEqual(server.feed("ann", (ping * 1000)[:4000], 1), (("ann", DONE),) * (4000 // len(ping)))
+        self.refused(InvalidOperation, None, server.feed, "bob", "x" * 4001, 1)
+        self.assertEqual(server.feed("bob", "x" * 4000, 1), (("bob", error("syntax")),))
+
     def test_a_hundred_clients(self):
         self.assertEqual(module.MAX_CLIENTS, 100)
         server = made(*["n%d" % at for at in range(100)])
@@ -119,6 +126,9 @@ class Talking(ServerCase):
                   ("ann", "get", ("ann", error("words"))), ("ann", "waitl a", ("ann", error("words"))), ("ann", "waitl a 0", ("ann", error("kind"))), ("ann", "queued", ("ann", error("unknown"))))
         for line in ("ping x", "close x", "listen", "match", "events", "publish", "publish a", "publish a b c", "begin x", "watch"):
             self.says(server, 1, ("ann", line, ("ann", error("words"))))
+        for word in ("unlisten", "unmatch", "unevents", "listen", "match", "events"):
+            self.assertEqual(server.feed("ann", write_command((word, *WIDE)), 1), (("ann", number(0 if word.startswith("un") else 63)),))
+            server.feed("ann", write_command((word if word.startswith("un") else "un" + word, *WIDE)), 1)
         self.says(server, 1, ("ann", "unlisten; unmatch; unevents", *[("ann", number(0))] * 3), ("ann", "listen a a; match a ''; events x y; unlisten b; unmatch a; unevents",
                   *[("ann", number(many)) for many in (1, 3, 5, 5, 4, 2)]))
 

@@ -2,8 +2,8 @@
 
 import collections
 
-from deedline.plain.grammar import WORDS
-from deedline.plain.store import is_line, replay, shown
+from deedline.plain.grammar import WORDS, does_write
+from deedline.plain.store import apply, changed_keys, is_deed, is_line, replay, shown
 from deedline.shape.entries import is_store, store_size
 from deedline.shape.packs import Bounds
 from deedline.store.core import Store
@@ -13,6 +13,7 @@ from tests.helpers import Case, chance
 from tests.model_store import PlainStore, Times, plain_size
 
 MOST_WORDS = [word for word in WORDS if word != "clear"]
+SHAPE_WORDS = {"text": ("text",), "list": ("nodes",), "set": ("row", "table"), "map": ("row", "table"), "sorted": ("row", "skips")}
 SHAPES = (None, Bounds(1, 1, 0, 0), Bounds(3, 9, 2, 3), Bounds(64, 1000, 200, 200))
 
 
@@ -77,6 +78,30 @@ class Runs(Case):
                 self.assertEqual(store.shown(at), shown(model.kept, at))
             self.end(store, model, {})
         self.assertEqual({word for word, _ in seen}, {*WORDS, "block"})
+
+    def test_units_of_another_store(self):
+        # Its deeds change other entries here, or none, or reply with an error.
+        for seed in range(12):
+            times = Times(seed + 600, [word for word in WORDS if does_write((word,)) and (word != "clear" or seed % 4 == 0)], keys=2, astray=0.2)
+            stores = [Store(bounds=SHAPES[seed % 4]), Store({"t0": ("list", ("x",), 3), "l0": ("list", ("a", "b"), None)}, bounds=SHAPES[seed % 4], bound=90, place=5)]
+            first, line = [store.kept() for store in stores], [[], []]
+            for _ in range(120):
+                at = times.pick.randrange(2)
+                one, other = stores[at], stores[1 - at]
+                place = one.place
+                one.call(times.command(), times.now)
+                deeds = tuple(command for command in (times.command(), times.command()) if is_deed(command))
+                for unit in [*one.units_from(place), *[(times.now, deeds)] * bool(deeds)]:
+                    before = other.kept()
+                    changed = []
+                    for deed in unit[1]:
+                        changed.append(changed_keys(before, deed))
+                        before = apply(before, deed)
+                    self.assertEqual((other.apply(unit), other.kept(), list(other)), (tuple(changed), before, sorted(before)))
+                    for key in before:
+                        self.assertIn(other.shape_at(key), SHAPE_WORDS[before[key][0]])
+            for store, entries in zip(stores, first):
+                self.assertEqual(replay(store.units, entries), store.kept())
 
     def test_with_room_near_the_size(self):
         seen = collections.Counter()

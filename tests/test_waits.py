@@ -66,6 +66,15 @@ class Asking(Case):
         self.assertEqual(self.asked("waitl m 1", now=END)[0], error("range"))
         self.assertEqual(self.asked("waitl m %d" % (END - 7), now=7)[0], listed(text("m"), text("z")))
 
+    def test_words_that_are_no_keys(self):
+        # Keys that look like the word, a side or a time are not looked at.
+        for key in ("waitl", "waitz", "waitmove", "0", "left", "least"):
+            for entry in (("list", ("x",), None), ("sorted", ((1, "x"),), None), ("text", "", None)):
+                for line in ("waitl q 0", "waitz q least 0", "waitmove q r left left 0"):
+                    store = Store({key: entry})
+                    waits = Waits(store)
+                    self.assertEqual((waits.ask("ann", words_of(line), 5), waits.serve(5), waits.names, store.units), (None, (), ("ann",), ()))
+
     def test_pops_that_reply_with_an_error(self):
         full = {"l": ("list", ("x",), None), "m": ("list", ("y",) * 200, None)}
         store = Store(full)

@@ -2,7 +2,7 @@
 
 from deedline.base.letters import MAX_PIECE, Reader
 from deedline.base.replies import DONE, error_reply, number_reply, texts_reply
-from deedline.base.words import check_not_ahead, check_text
+from deedline.base.words import check_text
 from deedline.client.blocks import Session
 from deedline.client.waits import WAIT_WORDS, Waits
 from deedline.errors import InvalidOperation, TooMany, UnknownName
@@ -84,19 +84,16 @@ class Server:
         self._check_name(name)
         if not isinstance(piece, str) or len(piece) > MAX_PIECE:
             raise InvalidOperation("no string, or one that is too long")
-        check_not_ahead(now, self._store.now)
         client = self._clients[name]
         told = []
         self._end_waits(now, told)
         for thing in client.read(piece):
             client.todo.append(thing)
-            if name in self._clients and name not in self._waits:
-                self._go_on([name], now, told)
+            self._go_on([name], now, told)
         return tuple(told)
 
     def tick(self, now):
         """Moves the time, and returns the tuple of all that is told in this call."""
-        check_not_ahead(now, self._store.now)
         told = []
         self._end_waits(now, told)
         return tuple(told)
@@ -120,7 +117,10 @@ class Server:
         self._go_on([name for name, _ in pairs], now, told)
 
     def _go_on(self, row, now, told):
-        """Lets the clients of a row do what they hold; who is served meanwhile is put behind them."""
+        """Lets the clients of a row do what they hold, but for those that wait or are closed.
+
+        Who is served meanwhile is put behind them.
+        """
         row = list(row)
         while row:
             name = row.pop(0)

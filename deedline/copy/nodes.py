@@ -1,8 +1,9 @@
 """Stands, which tell how far a copy of the line has come, and nodes that keep copies."""
 
 from deedline.base.replies import error_reply
-from deedline.base.words import check_command, check_count, check_key, check_not_ahead, check_time, check_within
-from deedline.base.words import is_within
+from deedline.base.words import (
+    check_command, check_count, check_key, check_not_ahead, check_time, check_within, is_within,
+)
 from deedline.disk.texts import MAX_BRANCH, check_branch, is_branch
 from deedline.errors import InvalidOperation
 from deedline.plain.grammar import does_write, first_error
