@@ -6,6 +6,8 @@ import pathlib
 import re
 import unittest
 
+from tests.telling import MODIFYING, changing_parts, is_property, modifying_calls
+
 ROOT = pathlib.Path(__file__).resolve().parent.parent
 FILES = sorted((ROOT / "deedline").rglob("*.py"))
 BUILTINS = set(
@@ -33,6 +35,21 @@ BEGINNINGS = ("_wall", "_pe_", "_dcw_", "_enum_", "_cm_", "_twin_re_", "_lay_", 
 WHOLE = ("_cold", "_tuplegetter", "_outside", "_record", "_written_out", "_member_names")
 NODES_BARRED = (ast.Global, ast.AsyncFunctionDef, ast.AsyncFor, ast.AsyncWith, ast.Await, ast.Div, ast.MatMult,
                 ast.Import, ast.TryStar)
+
+# Files in each of which a property `told` runs a function `inner`, which is to stand behind.
+WAYS_TO_RUN = [
+    "class Box:\n  @property\n  def told(self):\n    %s\n%s\n" % (rows, more) for rows, more in (
+        ("return inner()", ""), ("return self.one()", "  def one(self):\n    return inner()"),
+        ("return self.rows[0].one()", "class Row:\n  def one(self):\n    return two()\ndef two():\n  return inner()"),
+        ("return tuple([row.one() for row in self.rows])", "class Row:\n  def one(self):\n    return inner()"),
+        ("return Row(1)", "class Row:\n  def __init__(self, at):\n    self.at = inner()"),
+        ("return Row(1)", "class Base:\n  def __init__(self, at):\n    self.at = inner()\nclass Row(Base):\n  pass"),
+        ("return Row.made(1)", "class Row:\n  @staticmethod\n  def made(at):\n    return inner()"),
+        ("return outer()", "from a.b import inner as outer"), ("return WAYS[1]()", "WAYS = {1: inner}"),
+        ("return OTHER[1]()", "from a.b import WAYS as OTHER\nWAYS = {1: inner}"), ("return sorted(self.rows, key=inner)", ""),
+        ("return max(self.rows, key=self.one)", "  def one(self, row):\n    return inner()"),
+        ("def outer():\n      return inner()\n    return outer()", ""), ("return sorted(self.rows, key=lambda row: inner())", ""),
+    )]
 
 
 def trees():
@@ -219,6 +236,44 @@ class Language(unittest.TestCase):
                     self.assertFalse([one for part in node.values if isinstance(part, ast.FormattedValue) for one in ast.walk(part.value)
                                       if isinstance(one, (ast.JoinedStr, ast.Constant))], where)
 
+    def test_what_only_tells(self):
+        texts = [path.read_text() for path in FILES]
+        self.assertEqual(modifying_calls(texts), [])
+        self.assertEqual(changing_parts(texts), [])
 
-def is_property(node):
-    return any(isinstance(one, ast.Name) and one.id == "property" for one in node.decorator_list)
+    def test_calls_that_modify_are_found(self):
+        for name in sorted(MODIFYING):
+            other = "class Disk:\n    def %s(self, signs):\n        self.signs = signs\n" % name
+            call = "rows = []\n    rows.%s(1)\n    return rows\n" % name
+            for way in WAYS_TO_RUN:
+                text = way + "def inner():\n    " + call
+                self.assertEqual(modifying_calls([other, text]), [("told", name)], text)
+                self.assertEqual(modifying_calls([text, other]), [("told", name)], text)
+                # Where no class has a method of that name, the call is plainly that of a list.
+                self.assertEqual(modifying_calls([text]), [], text)
+                self.assertEqual(modifying_calls([text, "def %s(signs):\n    pass\n" % name]), [], text)
+                self.assertEqual(modifying_calls([other, way + "def inner():\n    rows = []\n    rows += [1]\n    return rows\n"]), [])
+            text = "class Box:\n  @property\n  def told(self):\n    " + call
+            self.assertEqual((modifying_calls([text]), modifying_calls([text, other])), ([], [("told", name)]))
+            for double in ("__eq__", "__str__", "__repr__", "__len__", "__contains__"):
+                text = "class Box:\n  def %s(self, *other):\n    return inner()\ndef inner():\n    %s" % (double, call)
+                self.assertEqual(modifying_calls([other, text]), [(double, name)], text)
+            for plain in ("__init__", "__call__", "put"):
+                text = "class Box:\n  def %s(self, *other):\n    return inner()\ndef inner():\n    %s" % (plain, call)
+                self.assertEqual(modifying_calls([other, text]), [], text)
+
+    def test_changes_are_found(self):
+        bad = ("self.rows = 0", "self.rows += [1]", "self.rows[0] = 1", "del self.rows[0]", "self.rows.pop()", "rows = self.rows\n    rows[0] = 1",
+               "rows = []\n    rows = self.rows\n    rows.append(1)", "self.put(1)", "for rows in self.rows:\n      rows.append(1)",
+               "rows = self.rows\n    rows += [1]", "rows = {k: 1 for k in self.rows}\n    rows[0] = 1", "[].append(1)", "a, self.b = 1, 2",
+               "rows = [1]\n    rows += [2]", "many = self.many()\n    many += many", "rows = 'a'\n    rows |= 2", "rows = []\n    rows *= 2",
+               "rows = [2, 1]\n    rows.sort()", "rows = set()\n    rows.add(1)", "rows = set()\n    rows.discard(1)")
+        good = ("rows = []\n    rows.append(1)", "rows = []\n    rows += [2]", "many = 2\n    many *= 3", "rows = list(self.rows)\n    rows[0] = 1", "rows = {}\n    rows[0] = 1",
+                "many = 0\n    many += 1", "many = len(self.rows)\n    many -= len(self.rows)", "rows = [x for x in self.rows]\n    del rows[0]", "self.rest(1)")
+        more = "  def put(self, row):\n    self.rows = row\n  def rest(self, row):\n    return Box()\n  def __init__(self):\n    self.rows = []\n"
+        for rows in bad:
+            self.assertTrue(changing_parts(["class Box:\n  @property\n  def told(self):\n    %s\n%s" % (rows, more)]), rows)
+            self.assertTrue(changing_parts(["class Box:\n  def __len__(self):\n    %s\n    return 0\n%s" % (rows, more)]), rows)
+            self.assertEqual(changing_parts(["class Box:\n  def told(self):\n    %s\n%s" % (rows, more)]), [], rows)
+        for rows in good:
+            self.assertEqual(changing_parts(["class Box:\n  @property\n  def told(self):\n    %s\n%s" % (rows, more)]), [], rows)

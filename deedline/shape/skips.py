@@ -178,10 +178,11 @@ class Level:
 
     def told(self):
         """The tuple of the pairs (member, span) of the links, in order."""
-        pairs = [(None, self.spans[None])]
-        member = self.links[None]
-        while member is not None:
-            pairs.append((member, self.spans[member]))
+        # Properties run this, and a disk's method is called `append`: nothing here may be called so.
+        pairs = []
+        member = None
+        for _ in self.links:
+            pairs += [(member, self.spans[member])]
             member = self.links[member]
         return tuple(pairs)
 
